@@ -1,0 +1,224 @@
+// Package rules tests what the document asks of the program's text: which packages call which, and which of the language's ways they lean on.
+package rules
+
+import (
+	"go/ast"
+	"go/parser"
+	"go/token"
+	"os"
+	"path/filepath"
+	"slices"
+	"strconv"
+	"strings"
+	"testing"
+)
+
+// root is the project's folder.
+const root = ".."
+
+// calls is the document's map: each layer, and those that it calls. (Package api is everybody's.)
+var calls = map[string]string{
+	"api":        "",
+	"gf":         "",
+	"poly":       "gf",
+	"linear":     "gf",
+	"systematic": "poly",
+	"welch":      "gf linear poly",
+	"crc":        "",
+	"little":     "",
+	"bits":       "",
+	"lengths":    "",
+	"canon":      "bits lengths",
+	"symbol":     "",
+	"inflate":    "bits canon little symbol",
+	"match":      "",
+	"block":      "bits canon lengths little symbol",
+	"deflate":    "bits block match",
+	"name":       "",
+	"stamp":      "",
+	"local":      "little name stamp",
+	"central":    "little local name stamp",
+	"tail":       "little",
+	"volume":     "",
+	"span":       "little",
+	"stripe":     "little systematic",
+	"seal":       "crc little stripe",
+	"damage":     "crc seal stripe",
+	"mend":       "damage seal stripe systematic welch",
+	"extract":    "central crc inflate little local tail volume",
+	"rebuild":    "central crc deflate extract local name span tail volume",
+	"archive":    "central damage extract mend name rebuild span stamp stripe volume",
+}
+
+// library is what of Go's own library the program may lean on.
+const library = " bytes cmp container/heap errors iter maps math math/bits slices sort strconv strings sync sync/atomic unicode unicode/utf8 "
+
+// parse is the files of a package that aren't tests.
+func parse(t *testing.T, pack string) []*ast.File {
+	t.Helper()
+	paths, err := filepath.Glob(filepath.Join(root, pack, "*.go"))
+	if err != nil {
+		t.Fatal(err)
+	}
+	var files []*ast.File
+	for _, path := range paths {
+		if strings.HasSuffix(path, "_test.go") {
+			continue
+		}
+		file, err := parser.ParseFile(token.NewFileSet(), path, nil, parser.ParseComments)
+		if err != nil {
+			t.Fatal(err)
+		}
+		files = append(files, file)
+	}
+	if len(files) == 0 {
+		t.Fatalf("package %s has no files", pack)
+	}
+	return files
+}
+
+// mayImport tells whether a layer may lean on a package.
+func mayImport(pack, path string) bool {
+	own, ok := strings.CutPrefix(path, "footlocker/")
+	if !ok {
+		return strings.Contains(library, " "+path+" ")
+	}
+	_, layer := calls[own]
+	return !layer || own == "api" || slices.Contains(strings.Fields(calls[pack]), own)
+}
+
+func TestLayersCallThoseBelow(t *testing.T) {
+	for pack := range calls {
+		for _, file := range parse(t, pack) {
+			for _, spec := range file.Imports {
+				path, err := strconv.Unquote(spec.Path.Value)
+				if err != nil || !mayImport(pack, path) {
+					t.Errorf("package %s imports %s", pack, spec.Path.Value)
+				}
+			}
+		}
+	}
+}
+
+func TestNoCompilerDirectives(t *testing.T) {
+	for pack := range calls {
+		for _, file := range parse(t, pack) {
+			for _, group := range file.Comments {
+				for _, c := range group.List {
+					if strings.HasPrefix(c.Text, "//go:") || strings.HasPrefix(c.Text, "// +build") {
+						t.Errorf("package %s: %s", pack, c.Text)
+					}
+				}
+			}
+		}
+	}
+}
+
+func TestNoFilesBesideGo(t *testing.T) {
+	for pack := range calls {
+		entries, err := os.ReadDir(filepath.Join(root, pack))
+		if err != nil {
+			t.Fatal(err)
+		}
+		for _, x := range entries {
+			if !strings.HasSuffix(x.Name(), ".go") {
+				t.Errorf("package %s has %s", pack, x.Name())
+			}
+		}
+	}
+}
+
+// function is a function of a package, and those of the package that it calls by name.
+func function(t *testing.T, pack, name string) []ast.Node {
+	t.Helper()
+	bodies := map[string]*ast.FuncDecl{}
+	for _, file := range parse(t, pack) {
+		for _, d := range file.Decls {
+			if f, ok := d.(*ast.FuncDecl); ok && f.Recv == nil {
+				bodies[f.Name.Name] = f
+			}
+		}
+	}
+	var reached []ast.Node
+	var reach func(name string)
+	reach = func(name string) {
+		f := bodies[name]
+		if f == nil || slices.Contains(reached, ast.Node(f)) {
+			return
+		}
+		reached = append(reached, f)
+		ast.Inspect(f, func(n ast.Node) bool {
+			if id, ok := n.(*ast.Ident); ok {
+				reach(id.Name)
+			}
+			return true
+		})
+	}
+	reach(name)
+	if len(reached) == 0 {
+		t.Fatalf("package %s has no %s", pack, name)
+	}
+	return reached
+}
+
+// has tells whether what is asked for stands in one of the nodes.
+func has(nodes []ast.Node, is func(ast.Node) bool) bool {
+	found := false
+	for _, n := range nodes {
+		ast.Inspect(n, func(n ast.Node) bool {
+			found = found || n != nil && is(n)
+			return !found
+		})
+	}
+	return found
+}
+
+// isArray: a type with a length of its own.
+func isArray(n ast.Node) bool {
+	a, ok := n.(*ast.ArrayType)
+	return ok && a.Len != nil
+}
+
+// isCountedRange: a range over a number, or over a name that is a constant.
+func isCountedRange(n ast.Node) bool {
+	r, ok := n.(*ast.RangeStmt)
+	if !ok || r.Value != nil {
+		return false
+	}
+	switch x := r.X.(type) {
+	case *ast.BasicLit:
+		return x.Kind == token.INT
+	case *ast.Ident:
+		return x.Obj != nil && x.Obj.Kind == ast.Con
+	}
+	return false
+}
+
+// isCopy: a call that answers, or makes, a copy.
+func isCopy(n ast.Node) bool {
+	call, ok := n.(*ast.CallExpr)
+	if !ok {
+		return false
+	}
+	switch f := call.Fun.(type) {
+	case *ast.Ident:
+		return f.Name == "copy"
+	case *ast.SelectorExpr:
+		return f.Sel.Name == "Clone"
+	}
+	return false
+}
+
+func TestWaysOfStage1(t *testing.T) {
+	if !has(function(t, "poly", "Through"), isArray) {
+		t.Error("poly: which bytes stand twice isn't an array")
+	}
+	for _, name := range []string{"Log", "Pow", "Exp"} {
+		if !has(function(t, "gf", name), isCountedRange) {
+			t.Errorf("gf: %s doesn't go through powers by a range over an integer", name)
+		}
+	}
+	if !has(function(t, "poly", "Add"), isCopy) {
+		t.Error("poly: a sum doesn't begin as a copy")
+	}
+}
