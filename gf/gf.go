@@ -77,11 +77,24 @@ func Dot(a, b []byte) byte {
 	return sum
 }
 
-// Scale is each byte times one.
+// Scale is each byte times one. Whole rows are scaled again and again by the layers above, so what four bits come to is told ahead of the bytes.
 func Scale(a []byte, by byte) []byte {
+	low, by := fourBits(by)
+	high, _ := fourBits(by)
 	scaled := make([]byte, len(a))
 	for i, v := range a {
-		scaled[i] = Mul(v, by)
+		scaled[i] = low[v&15] ^ high[v>>4]
 	}
 	return scaled
+}
+
+// fourBits is a byte times each that has no more than its lowest four bits, and the byte times what the next bit stands for.
+func fourBits(by byte) (products [16]byte, next byte) {
+	for bit := range 4 {
+		for i := range 1 << bit {
+			products[1<<bit+i] = Add(products[i], by)
+		}
+		by = timesX(by)
+	}
+	return products, by
 }

@@ -209,6 +209,12 @@ func isCopy(n ast.Node) bool {
 	return false
 }
 
+// isClosure: a function that is written within another.
+func isClosure(n ast.Node) bool {
+	_, ok := n.(*ast.FuncLit)
+	return ok
+}
+
 func TestWaysOfStage1(t *testing.T) {
 	if !has(function(t, "poly", "Through"), isArray) {
 		t.Error("poly: which bytes stand twice isn't an array")
@@ -220,5 +226,11 @@ func TestWaysOfStage1(t *testing.T) {
 	}
 	if !has(function(t, "poly", "Add"), isCopy) {
 		t.Error("poly: a sum doesn't begin as a copy")
+	}
+}
+
+func TestWaysOfStage2(t *testing.T) {
+	if !has(function(t, "linear", "Reduce"), isClosure) {
+		t.Error("linear: the row that comes up isn't found by a closure")
 	}
 }
