@@ -128,22 +128,38 @@ func TestNoFilesBesideGo(t *testing.T) {
 	}
 }
 
-// function is a function of a package, and those of the package that it calls by name.
-func function(t *testing.T, pack, name string) []ast.Node {
+// bodies is a package's functions and variables, by their names.
+func bodies(t *testing.T, pack string) map[string]ast.Node {
 	t.Helper()
-	bodies := map[string]*ast.FuncDecl{}
+	all := map[string]ast.Node{}
 	for _, file := range parse(t, pack) {
 		for _, d := range file.Decls {
-			if f, ok := d.(*ast.FuncDecl); ok && f.Recv == nil {
-				bodies[f.Name.Name] = f
+			switch x := d.(type) {
+			case *ast.FuncDecl:
+				if x.Recv == nil {
+					all[x.Name.Name] = x
+				}
+			case *ast.GenDecl:
+				for _, spec := range x.Specs {
+					if v, ok := spec.(*ast.ValueSpec); ok && x.Tok == token.VAR {
+						all[v.Names[0].Name] = v
+					}
+				}
 			}
 		}
 	}
+	return all
+}
+
+// function is a function of a package, and those functions and variables of the package that it names.
+func function(t *testing.T, pack, name string) []ast.Node {
+	t.Helper()
+	named := bodies(t, pack)
 	var reached []ast.Node
 	var reach func(name string)
 	reach = func(name string) {
-		f := bodies[name]
-		if f == nil || slices.Contains(reached, ast.Node(f)) {
+		f := named[name]
+		if f == nil || slices.Contains(reached, f) {
 			return
 		}
 		reached = append(reached, f)
@@ -215,6 +231,38 @@ func isClosure(n ast.Node) bool {
 	return ok
 }
 
+// isThreeIndexSlice: a piece whose room is told, too.
+func isThreeIndexSlice(n ast.Node) bool {
+	s, ok := n.(*ast.SliceExpr)
+	return ok && s.Slice3
+}
+
+// isTableOf: a variable of a package that is written out, of so many numbers.
+func isTableOf(count int) func(ast.Node) bool {
+	return func(n ast.Node) bool {
+		v, ok := n.(*ast.ValueSpec)
+		if !ok || len(v.Values) != 1 {
+			return false
+		}
+		table, ok := v.Values[0].(*ast.CompositeLit)
+		return ok && len(table.Elts) == count
+	}
+}
+
+// isCallRange: a range over what a call answers that isn't one of the language's own, which answer numbers.
+func isCallRange(n ast.Node) bool {
+	r, ok := n.(*ast.RangeStmt)
+	if !ok {
+		return false
+	}
+	call, ok := r.X.(*ast.CallExpr)
+	if !ok {
+		return false
+	}
+	name, ok := call.Fun.(*ast.Ident)
+	return !ok || !slices.Contains([]string{"len", "cap", "min", "max"}, name.Name)
+}
+
 func TestWaysOfStage1(t *testing.T) {
 	if !has(function(t, "poly", "Through"), isArray) {
 		t.Error("poly: which bytes stand twice isn't an array")
@@ -232,5 +280,19 @@ func TestWaysOfStage1(t *testing.T) {
 func TestWaysOfStage2(t *testing.T) {
 	if !has(function(t, "linear", "Reduce"), isClosure) {
 		t.Error("linear: the row that comes up isn't found by a closure")
+	}
+}
+
+func TestWaysOfStage3(t *testing.T) {
+	if !has(function(t, "welch", "Decode"), isThreeIndexSlice) {
+		t.Error("welch: a polynomial isn't cut by a three-index slice")
+	}
+	for _, name := range []string{"Sum", "Update"} {
+		if !has(function(t, "crc", name), isTableOf(16)) {
+			t.Errorf("crc: %s doesn't tell what four bits come to by a constant table", name)
+		}
+	}
+	if !has(function(t, "crc", "Blocks"), isCallRange) {
+		t.Error("crc: blocks don't come by a range over a function")
 	}
 }
