@@ -5,6 +5,7 @@ import (
 	"go/ast"
 	"go/parser"
 	"go/token"
+	"go/types"
 	"os"
 	"path/filepath"
 	"slices"
@@ -53,9 +54,18 @@ var calls = map[string]string{
 // library is what of Go's own library the program may lean on.
 const library = " bytes cmp container/heap errors iter maps math math/bits slices sort strconv strings sync sync/atomic unicode unicode/utf8 "
 
+// parsed are the files of packages that were parsed before, so that each has its nodes once; places tells where they stand.
+var (
+	parsed = map[string][]*ast.File{}
+	places = token.NewFileSet()
+)
+
 // parse is the files of a package that aren't tests.
 func parse(t *testing.T, pack string) []*ast.File {
 	t.Helper()
+	if parsed[pack] != nil {
+		return parsed[pack]
+	}
 	paths, err := filepath.Glob(filepath.Join(root, pack, "*.go"))
 	if err != nil {
 		t.Fatal(err)
@@ -65,7 +75,7 @@ func parse(t *testing.T, pack string) []*ast.File {
 		if strings.HasSuffix(path, "_test.go") {
 			continue
 		}
-		file, err := parser.ParseFile(token.NewFileSet(), path, nil, parser.ParseComments)
+		file, err := parser.ParseFile(places, path, nil, parser.ParseComments)
 		if err != nil {
 			t.Fatal(err)
 		}
@@ -74,6 +84,7 @@ func parse(t *testing.T, pack string) []*ast.File {
 	if len(files) == 0 {
 		t.Fatalf("package %s has no files", pack)
 	}
+	parsed[pack] = files
 	return files
 }
 
@@ -128,21 +139,37 @@ func TestNoFilesBesideGo(t *testing.T) {
 	}
 }
 
-// bodies is a package's functions and variables, by their names.
-func bodies(t *testing.T, pack string) map[string]ast.Node {
+// receiver is the name of the type that a method is of, or none.
+func receiver(f *ast.FuncDecl) string {
+	if f.Recv == nil {
+		return ""
+	}
+	of := f.Recv.List[0].Type
+	if star, ok := of.(*ast.StarExpr); ok {
+		of = star.X
+	}
+	if name, ok := of.(*ast.Ident); ok {
+		return name.Name
+	}
+	return ""
+}
+
+// bodies is a package's functions and variables, by their names. A method has two: its own, and that behind its type's and a dot.
+func bodies(t *testing.T, pack string) map[string][]ast.Node {
 	t.Helper()
-	all := map[string]ast.Node{}
+	all := map[string][]ast.Node{}
 	for _, file := range parse(t, pack) {
 		for _, d := range file.Decls {
 			switch x := d.(type) {
 			case *ast.FuncDecl:
-				if x.Recv == nil {
-					all[x.Name.Name] = x
+				all[x.Name.Name] = append(all[x.Name.Name], x)
+				if of := receiver(x); of != "" {
+					all[of+"."+x.Name.Name] = []ast.Node{x}
 				}
 			case *ast.GenDecl:
 				for _, spec := range x.Specs {
 					if v, ok := spec.(*ast.ValueSpec); ok && x.Tok == token.VAR {
-						all[v.Names[0].Name] = v
+						all[v.Names[0].Name] = []ast.Node{v}
 					}
 				}
 			}
@@ -151,24 +178,25 @@ func bodies(t *testing.T, pack string) map[string]ast.Node {
 	return all
 }
 
-// function is a function of a package, and those functions and variables of the package that it names.
+// function is a function (or a method) of a package, and those functions, methods and variables of the package that it names.
 func function(t *testing.T, pack, name string) []ast.Node {
 	t.Helper()
 	named := bodies(t, pack)
 	var reached []ast.Node
 	var reach func(name string)
 	reach = func(name string) {
-		f := named[name]
-		if f == nil || slices.Contains(reached, f) {
-			return
-		}
-		reached = append(reached, f)
-		ast.Inspect(f, func(n ast.Node) bool {
-			if id, ok := n.(*ast.Ident); ok {
-				reach(id.Name)
+		for _, f := range named[name] {
+			if slices.Contains(reached, f) {
+				continue
 			}
-			return true
-		})
+			reached = append(reached, f)
+			ast.Inspect(f, func(n ast.Node) bool {
+				if id, ok := n.(*ast.Ident); ok {
+					reach(id.Name)
+				}
+				return true
+			})
+		}
 	}
 	reach(name)
 	if len(reached) == 0 {
@@ -187,6 +215,32 @@ func has(nodes []ast.Node, is func(ast.Node) bool) bool {
 		})
 	}
 	return found
+}
+
+// nowhere finds no package: a package's own types are told without those that it imports.
+type nowhere struct{}
+
+func (nowhere) Import(path string) (*types.Package, error) { return nil, os.ErrNotExist }
+
+// typesOf tells of what types a package's expressions are, as far as that hangs on it alone.
+func typesOf(t *testing.T, pack string) map[ast.Expr]types.TypeAndValue {
+	t.Helper()
+	info := types.Info{Types: map[ast.Expr]types.TypeAndValue{}}
+	lenient := types.Config{Importer: nowhere{}, Error: func(error) {}}
+	lenient.Check(pack, places, parse(t, pack), &info) // its error is of what is imported
+	return info.Types
+}
+
+// isIntegerRange: a range over an integer, of whatever kind.
+func isIntegerRange(of map[ast.Expr]types.TypeAndValue) func(ast.Node) bool {
+	return func(n ast.Node) bool {
+		r, ok := n.(*ast.RangeStmt)
+		if !ok || of[r.X].Type == nil {
+			return false
+		}
+		basic, ok := of[r.X].Type.Underlying().(*types.Basic)
+		return ok && basic.Info()&types.IsInteger != 0
+	}
 }
 
 // isArray: a type with a length of its own.
@@ -294,5 +348,19 @@ func TestWaysOfStage3(t *testing.T) {
 	}
 	if !has(function(t, "crc", "Blocks"), isCallRange) {
 		t.Error("crc: blocks don't come by a range over a function")
+	}
+}
+
+func TestWaysOfStage4(t *testing.T) {
+	for pack, names := range map[string][]string{
+		"little": {"Put", "Get", "Reader.Num"},
+		"bits":   {"Writer.Put", "Writer.Code", "Reader.Get", "Reader.Bit"},
+	} {
+		is := isIntegerRange(typesOf(t, pack))
+		for _, name := range names {
+			if !has(function(t, pack, name), is) {
+				t.Errorf("%s: %s doesn't go through bits or bytes by a range over an integer", pack, name)
+			}
+		}
 	}
 }
