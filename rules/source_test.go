@@ -364,3 +364,24 @@ func TestWaysOfStage4(t *testing.T) {
 		}
 	}
 }
+
+func TestWaysOfStage5(t *testing.T) {
+	for _, name := range []string{"Codes", "New"} {
+		if !has(function(t, "canon", name), isArray) {
+			t.Errorf("canon: %s's first codes aren't an array by their lengths", name)
+		}
+	}
+	for pack, names := range map[string][]string{
+		"lengths": {"Make", "Fit"},
+		"canon":   {"Codes", "New"},
+	} {
+		for _, name := range names {
+			if !has(function(t, pack, name), isClosure) {
+				t.Errorf("%s: %s doesn't find wrong numbers by a closure", pack, name)
+			}
+		}
+	}
+	if !has(function(t, "lengths", "Make"), isCallRange) {
+		t.Error("lengths: pairs don't come by a range over a function")
+	}
+}
