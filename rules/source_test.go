@@ -317,6 +317,37 @@ func isCallRange(n ast.Node) bool {
 	return !ok || !slices.Contains([]string{"len", "cap", "min", "max"}, name.Name)
 }
 
+// isCallOf: a call of one of the language's own functions.
+func isCallOf(name string) func(ast.Node) bool {
+	return func(n ast.Node) bool {
+		call, ok := n.(*ast.CallExpr)
+		if !ok {
+			return false
+		}
+		f, ok := call.Fun.(*ast.Ident)
+		return ok && f.Name == name
+	}
+}
+
+// isSureAssertion: an assignment by an assertion that isn't asked whether it holds, so that it panics if it doesn't.
+func isSureAssertion(n ast.Node) bool {
+	assign, ok := n.(*ast.AssignStmt)
+	return ok && len(assign.Lhs) == len(assign.Rhs) && slices.ContainsFunc(assign.Rhs, func(x ast.Expr) bool {
+		_, ok := x.(*ast.TypeAssertExpr)
+		return ok
+	})
+}
+
+// isDeferredCatch: a closure that is deferred, recovers, and asserts what it was.
+func isDeferredCatch(n ast.Node) bool {
+	d, ok := n.(*ast.DeferStmt)
+	if !ok || !isClosure(d.Call.Fun) {
+		return false
+	}
+	within := []ast.Node{d.Call.Fun}
+	return has(within, isCallOf("recover")) && has(within, isSureAssertion)
+}
+
 func TestWaysOfStage1(t *testing.T) {
 	if !has(function(t, "poly", "Through"), isArray) {
 		t.Error("poly: which bytes stand twice isn't an array")
@@ -383,5 +414,22 @@ func TestWaysOfStage5(t *testing.T) {
 	}
 	if !has(function(t, "lengths", "Make"), isCallRange) {
 		t.Error("lengths: pairs don't come by a range over a function")
+	}
+}
+
+func TestWaysOfStage6(t *testing.T) {
+	for name, count := range map[string]int{"Length": 29, "LengthBase": 29, "Dist": 30, "DistBase": 30} {
+		if !has(function(t, "symbol", name), isTableOf(count)) {
+			t.Errorf("symbol: %s's bases aren't a constant table", name)
+		}
+	}
+	for _, name := range []string{"Unpack", "All"} {
+		reached := function(t, "inflate", name)
+		if !has(reached, isCallOf("panic")) {
+			t.Errorf("inflate: %s doesn't give up by panic", name)
+		}
+		if !has(reached, isDeferredCatch) {
+			t.Errorf("inflate: %s doesn't catch that by recover and an assertion in a deferred call", name)
+		}
 	}
 }
