@@ -154,7 +154,7 @@ func receiver(f *ast.FuncDecl) string {
 	return ""
 }
 
-// bodies is a package's functions and variables, by their names. A method has two: its own, and that behind its type's and a dot.
+// bodies is a package's functions, types and variables, by their names. A method has two: its own, and that behind its type's and a dot.
 func bodies(t *testing.T, pack string) map[string][]ast.Node {
 	t.Helper()
 	all := map[string][]ast.Node{}
@@ -168,8 +168,13 @@ func bodies(t *testing.T, pack string) map[string][]ast.Node {
 				}
 			case *ast.GenDecl:
 				for _, spec := range x.Specs {
-					if v, ok := spec.(*ast.ValueSpec); ok && x.Tok == token.VAR {
-						all[v.Names[0].Name] = []ast.Node{v}
+					switch v := spec.(type) {
+					case *ast.ValueSpec:
+						if x.Tok == token.VAR {
+							all[v.Names[0].Name] = []ast.Node{v}
+						}
+					case *ast.TypeSpec:
+						all[v.Name.Name] = append(all[v.Name.Name], v)
 					}
 				}
 			}
@@ -178,7 +183,7 @@ func bodies(t *testing.T, pack string) map[string][]ast.Node {
 	return all
 }
 
-// function is a function (or a method) of a package, and those functions, methods and variables of the package that it names.
+// function is a function (or a method) of a package, and those functions, methods, types and variables of the package that it names.
 func function(t *testing.T, pack, name string) []ast.Node {
 	t.Helper()
 	named := bodies(t, pack)
@@ -430,6 +435,23 @@ func TestWaysOfStage6(t *testing.T) {
 		}
 		if !has(reached, isDeferredCatch) {
 			t.Errorf("inflate: %s doesn't catch that by recover and an assertion in a deferred call", name)
+		}
+	}
+}
+
+func TestWaysOfStage7(t *testing.T) {
+	find := function(t, "match", "Find")
+	if !has(find, isArray) {
+		t.Error("match: heads of chains aren't an array")
+	}
+	if !has(find, isIntegerRange(typesOf(t, "match"))) {
+		t.Error("match: places aren't looked at by a range over an integer")
+	}
+	for pack, names := range map[string][]string{"match": {"Expand"}, "block": {"Fixed", "FixedBits", "Dynamic"}} {
+		for _, name := range names {
+			if !has(function(t, pack, name), isClosure) {
+				t.Errorf("%s: %s doesn't find wrong tokens by a closure", pack, name)
+			}
 		}
 	}
 }
