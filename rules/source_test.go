@@ -248,6 +248,32 @@ func isIntegerRange(of map[ast.Expr]types.TypeAndValue) func(ast.Node) bool {
 	}
 }
 
+// isTextRange: a range over a string, rune by rune.
+func isTextRange(of map[ast.Expr]types.TypeAndValue) func(ast.Node) bool {
+	return func(n ast.Node) bool {
+		r, ok := n.(*ast.RangeStmt)
+		if !ok || of[r.X].Type == nil {
+			return false
+		}
+		basic, ok := of[r.X].Type.Underlying().(*types.Basic)
+		return ok && basic.Info()&types.IsString != 0
+	}
+}
+
+// isMapByText: the type of a map by strings. Its values are neither bools nor strings, for such maps aren't made and asked in one call.
+func isMapByText(n ast.Node) bool {
+	m, ok := n.(*ast.MapType)
+	if !ok {
+		return false
+	}
+	key, ok := m.Key.(*ast.Ident)
+	if !ok || key.Name != "string" {
+		return false
+	}
+	value, ok := m.Value.(*ast.Ident)
+	return !ok || value.Name != "bool" && value.Name != "string"
+}
+
 // isArray: a type with a length of its own.
 func isArray(n ast.Node) bool {
 	a, ok := n.(*ast.ArrayType)
@@ -453,5 +479,22 @@ func TestWaysOfStage7(t *testing.T) {
 				t.Errorf("%s: %s doesn't find wrong tokens by a closure", pack, name)
 			}
 		}
+	}
+}
+
+func TestWaysOfStage8(t *testing.T) {
+	is := isTextRange(typesOf(t, "name"))
+	for _, name := range []string{"Check", "Parts", "Runes", "Under"} {
+		if !has(function(t, "name", name), is) {
+			t.Errorf("name: %s doesn't go through a name rune by rune, by a range over a string", name)
+		}
+	}
+	for _, name := range []string{"Check", "Parts", "Under"} {
+		if !has(function(t, "name", name), isCallRange) {
+			t.Errorf("name: %s's parts don't come by a range over a function", name)
+		}
+	}
+	if !has(function(t, "name", "Twice"), isMapByText) {
+		t.Error("name: names that were there aren't a map")
 	}
 }
