@@ -498,3 +498,11 @@ func TestWaysOfStage8(t *testing.T) {
 		t.Error("name: names that were there aren't a map")
 	}
 }
+
+func TestWaysOfStage9(t *testing.T) {
+	for _, name := range []string{"Days", "Check", "Pack", "Unpack"} {
+		if !has(function(t, "stamp", name), isTableOf(12)) {
+			t.Errorf("stamp: %s doesn't tell how many days months have by a constant table", name)
+		}
+	}
+}
