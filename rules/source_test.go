@@ -379,6 +379,44 @@ func isDeferredCatch(n ast.Node) bool {
 	return has(within, isCallOf("recover")) && has(within, isSureAssertion)
 }
 
+// isVariadicClosure: a closure that is called with as many numbers as there are.
+func isVariadicClosure(n ast.Node) bool {
+	f, ok := n.(*ast.FuncLit)
+	if !ok || len(f.Type.Params.List) == 0 {
+		return false
+	}
+	_, ok = f.Type.Params.List[len(f.Type.Params.List)-1].Type.(*ast.Ellipsis)
+	return ok
+}
+
+// isEmbedding: a struct with a field that has no name of its own, of a type of another package.
+func isEmbedding(n ast.Node) bool {
+	s, ok := n.(*ast.StructType)
+	return ok && slices.ContainsFunc(s.Fields.List, func(f *ast.Field) bool {
+		_, ok := f.Type.(*ast.SelectorExpr)
+		return ok && len(f.Names) == 0
+	})
+}
+
+// isPromoted: a field asked of a struct of that name, which has it by embedding alone.
+func isPromoted(of map[ast.Expr]types.TypeAndValue, name string) func(ast.Node) bool {
+	return func(n ast.Node) bool {
+		x, ok := n.(*ast.SelectorExpr)
+		if !ok {
+			return false
+		}
+		named, ok := of[x.X].Type.(*types.Named)
+		if !ok || named.Obj().Name() != name {
+			return false
+		}
+		s, ok := named.Underlying().(*types.Struct)
+		for i := 0; ok && i < s.NumFields(); i++ {
+			ok = s.Field(i).Name() != x.Sel.Name
+		}
+		return ok
+	}
+}
+
 func TestWaysOfStage1(t *testing.T) {
 	if !has(function(t, "poly", "Through"), isArray) {
 		t.Error("poly: which bytes stand twice isn't an array")
@@ -503,6 +541,26 @@ func TestWaysOfStage9(t *testing.T) {
 	for _, name := range []string{"Days", "Check", "Pack", "Unpack"} {
 		if !has(function(t, "stamp", name), isTableOf(12)) {
 			t.Errorf("stamp: %s doesn't tell how many days months have by a constant table", name)
+		}
+	}
+}
+
+func TestWaysOfStage10(t *testing.T) {
+	is := isPromoted(typesOf(t, "central"), "Record")
+	for _, name := range []string{"Size", "Write", "Parse"} {
+		reached := function(t, "central", name)
+		if !has(reached, isEmbedding) {
+			t.Errorf("central: %s's records don't have a header by embedding", name)
+		}
+		if !has(reached, is) {
+			t.Errorf("central: %s doesn't ask for a header's fields as they're promoted", name)
+		}
+	}
+	for pack, names := range map[string][]string{"central": {"Write", "Parse"}, "tail": {"Great", "Locator", "End"}} {
+		for _, name := range names {
+			if !has(function(t, pack, name), isVariadicClosure) {
+				t.Errorf("%s: %s's numbers aren't laid by a variadic call of a closure", pack, name)
+			}
 		}
 	}
 }
