@@ -222,16 +222,29 @@ func has(nodes []ast.Node, is func(ast.Node) bool) bool {
 	return found
 }
 
-// nowhere finds no package: a package's own types are told without those that it imports.
-type nowhere struct{}
+// own finds the project's packages; those of Go's library aren't looked for.
+type own struct {
+	t     *testing.T
+	found map[string]*types.Package
+}
 
-func (nowhere) Import(path string) (*types.Package, error) { return nil, os.ErrNotExist }
+func (o own) Import(path string) (*types.Package, error) {
+	pack, ok := strings.CutPrefix(path, "footlocker/")
+	if !ok {
+		return nil, os.ErrNotExist
+	}
+	if o.found[pack] == nil {
+		lenient := types.Config{Importer: o, Error: func(error) {}}
+		o.found[pack], _ = lenient.Check(path, places, parse(o.t, pack), nil)
+	}
+	return o.found[pack], nil
+}
 
-// typesOf tells of what types a package's expressions are, as far as that hangs on it alone.
+// typesOf tells of what types a package's expressions are, as far as that hangs on the project alone.
 func typesOf(t *testing.T, pack string) map[ast.Expr]types.TypeAndValue {
 	t.Helper()
 	info := types.Info{Types: map[ast.Expr]types.TypeAndValue{}}
-	lenient := types.Config{Importer: nowhere{}, Error: func(error) {}}
+	lenient := types.Config{Importer: own{t, map[string]*types.Package{}}, Error: func(error) {}}
 	lenient.Check(pack, places, parse(t, pack), &info) // its error is of what is imported
 	return info.Types
 }
@@ -417,6 +430,22 @@ func isPromoted(of map[ast.Expr]types.TypeAndValue, name string) func(ast.Node) 
 	}
 }
 
+// isComparedStruct: structs of that name, of whatever package, that are held against each other as a whole.
+func isComparedStruct(of map[ast.Expr]types.TypeAndValue, name string) func(ast.Node) bool {
+	return func(n ast.Node) bool {
+		x, ok := n.(*ast.BinaryExpr)
+		if !ok || x.Op != token.EQL && x.Op != token.NEQ {
+			return false
+		}
+		named, ok := of[x.X].Type.(*types.Named)
+		if !ok || named.Obj().Name() != name {
+			return false
+		}
+		_, ok = named.Underlying().(*types.Struct)
+		return ok
+	}
+}
+
 func TestWaysOfStage1(t *testing.T) {
 	if !has(function(t, "poly", "Through"), isArray) {
 		t.Error("poly: which bytes stand twice isn't an array")
@@ -561,6 +590,20 @@ func TestWaysOfStage10(t *testing.T) {
 			if !has(function(t, pack, name), isVariadicClosure) {
 				t.Errorf("%s: %s's numbers aren't laid by a variadic call of a closure", pack, name)
 			}
+		}
+	}
+}
+
+func TestWaysOfStage11(t *testing.T) {
+	is := isComparedStruct(typesOf(t, "volume"), "Place")
+	for _, name := range []string{"Index", "Rest"} {
+		if !has(function(t, "volume", name), is) {
+			t.Errorf("volume: %s doesn't tell the end by places that are compared as structs", name)
+		}
+	}
+	for pack, name := range map[string]string{"volume": "Row", "span": "Go"} {
+		if !has(function(t, pack, name), isClosure) {
+			t.Errorf("%s: %s doesn't find empty volumes by a closure", pack, name)
 		}
 	}
 }
