@@ -446,6 +446,24 @@ func isComparedStruct(of map[ast.Expr]types.TypeAndValue, name string) func(ast.
 	}
 }
 
+// isGenericOf: a generic function whose numbers are of one of so many kinds.
+func isGenericOf(kinds int) func(ast.Node) bool {
+	return func(n ast.Node) bool {
+		f, ok := n.(*ast.FuncDecl)
+		if !ok || f.Type.TypeParams == nil {
+			return false
+		}
+		count := 1
+		has([]ast.Node{f.Type.TypeParams}, func(n ast.Node) bool {
+			if or, ok := n.(*ast.BinaryExpr); ok && or.Op == token.OR {
+				count++
+			}
+			return false
+		})
+		return count == kinds
+	}
+}
+
 func TestWaysOfStage1(t *testing.T) {
 	if !has(function(t, "poly", "Through"), isArray) {
 		t.Error("poly: which bytes stand twice isn't an array")
@@ -605,5 +623,14 @@ func TestWaysOfStage11(t *testing.T) {
 		if !has(function(t, pack, name), isClosure) {
 			t.Errorf("%s: %s doesn't find empty volumes by a closure", pack, name)
 		}
+	}
+}
+
+func TestWaysOfStage12(t *testing.T) {
+	if !has(function(t, "seal", "Write"), isGenericOf(2)) {
+		t.Error("seal: numbers of either kind aren't laid by a generic function")
+	}
+	if !has(function(t, "stripe", "Volume"), isClosure) {
+		t.Error("stripe: bytes that aren't 0 aren't found by a closure")
 	}
 }
