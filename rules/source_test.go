@@ -464,6 +464,20 @@ func isGenericOf(kinds int) func(ast.Node) bool {
 	}
 }
 
+// takesFunction: a function that one is handed in to.
+func takesFunction(of map[ast.Expr]types.TypeAndValue) func(ast.Node) bool {
+	return func(n ast.Node) bool {
+		f, ok := n.(*ast.FuncDecl)
+		return ok && slices.ContainsFunc(f.Type.Params.List, func(p *ast.Field) bool {
+			if of[p.Type].Type == nil {
+				return false
+			}
+			_, ok := of[p.Type].Type.Underlying().(*types.Signature)
+			return ok
+		})
+	}
+}
+
 func TestWaysOfStage1(t *testing.T) {
 	if !has(function(t, "poly", "Through"), isArray) {
 		t.Error("poly: which bytes stand twice isn't an array")
@@ -632,5 +646,15 @@ func TestWaysOfStage12(t *testing.T) {
 	}
 	if !has(function(t, "stripe", "Volume"), isClosure) {
 		t.Error("stripe: bytes that aren't 0 aren't found by a closure")
+	}
+}
+
+func TestWaysOfStage13(t *testing.T) {
+	is := takesFunction(typesOf(t, "mend"))
+	for _, name := range []string{"Blind", "Sealed", "Best"} {
+		reached := function(t, "mend", name)
+		if !has(reached, is) || !has(reached, isClosure) {
+			t.Errorf("mend: how %s tells a row isn't a closure that is handed in", name)
+		}
 	}
 }
