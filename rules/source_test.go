@@ -17,7 +17,7 @@ import (
 // root is the project's folder.
 const root = ".."
 
-// calls is the document's map: each layer, and those that it calls. (Package api is everybody's.)
+// calls is the document's map: each layer, and those that it calls. (Package api is everybody's.) Package directory stands beside the map, for what layers 27 and 28 have in common.
 var calls = map[string]string{
 	"api":        "",
 	"gf":         "",
@@ -46,8 +46,9 @@ var calls = map[string]string{
 	"seal":       "crc little stripe",
 	"damage":     "crc seal stripe",
 	"mend":       "damage seal stripe systematic welch",
-	"extract":    "central crc inflate little local tail volume",
-	"rebuild":    "central crc deflate extract local name span tail volume",
+	"directory":  "central local tail volume",
+	"extract":    "central crc inflate little local tail volume directory",
+	"rebuild":    "central crc deflate extract local name span tail volume directory",
 	"archive":    "central damage extract mend name rebuild span stamp stripe volume",
 }
 
@@ -285,6 +286,39 @@ func isMapByText(n ast.Node) bool {
 	}
 	value, ok := m.Value.(*ast.Ident)
 	return !ok || value.Name != "bool" && value.Name != "string"
+}
+
+// isMapByNumber: the type of a map from numbers to numbers.
+func isMapByNumber(n ast.Node) bool {
+	m, ok := n.(*ast.MapType)
+	if !ok {
+		return false
+	}
+	key, ok := m.Key.(*ast.Ident)
+	value, sure := m.Value.(*ast.Ident)
+	return ok && sure && key.Name == "int" && value.Name == "uint64"
+}
+
+// isTypeSwitch: a switch by the type of a value.
+func isTypeSwitch(n ast.Node) bool {
+	_, ok := n.(*ast.TypeSwitchStmt)
+	return ok
+}
+
+// isCallIn: a call of a function of another package.
+func isCallIn(pack, name string) func(ast.Node) bool {
+	return func(n ast.Node) bool {
+		call, ok := n.(*ast.CallExpr)
+		if !ok {
+			return false
+		}
+		f, ok := call.Fun.(*ast.SelectorExpr)
+		if !ok {
+			return false
+		}
+		of, ok := f.X.(*ast.Ident)
+		return ok && of.Name == pack && f.Sel.Name == name
+	}
 }
 
 // isArray: a type with a length of its own.
@@ -656,5 +690,22 @@ func TestWaysOfStage13(t *testing.T) {
 		if !has(reached, is) || !has(reached, isClosure) {
 			t.Errorf("mend: how %s tells a row isn't a closure that is handed in", name)
 		}
+	}
+}
+
+func TestWaysOfStage14(t *testing.T) {
+	if !has(function(t, "extract", "Name"), isTypeSwitch) {
+		t.Error("extract: what was read isn't told by a type switch")
+	}
+	if has(bodies(t, "extract")["Name"], isTypeSwitch) {
+		t.Error("extract: Name itself switches by the type of what is handed in")
+	}
+	for pack, name := range map[string]string{"extract": "Tail", "rebuild": "Close"} {
+		if !has(function(t, pack, name), isCallIn("directory", "Tail")) {
+			t.Errorf("%s: %s doesn't count by package directory's Tail", pack, name)
+		}
+	}
+	if !has(function(t, "directory", "Tail"), isMapByNumber) {
+		t.Error("directory: how many records stand on each disk isn't a map")
 	}
 }
