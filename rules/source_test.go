@@ -709,3 +709,9 @@ func TestWaysOfStage14(t *testing.T) {
 		t.Error("directory: how many records stand on each disk isn't a map")
 	}
 }
+
+func TestWaysOfStage15(t *testing.T) {
+	if !has(function(t, "archive", "Create"), isMapByText) {
+		t.Error("archive: names that were there aren't a map")
+	}
+}
